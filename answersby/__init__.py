@@ -1,0 +1,1 @@
+"""Answersby: which methods answer an operation."""
