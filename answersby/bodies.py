@@ -106,10 +106,12 @@ class Body:
             raise NoBody(place)
         self.method = method
         self.expression = expression
+        # Kept, because a run looks at them again and again.
+        self._nodes = _numbered(expression, 0)
 
     def nodes(self):
         """The nodes, with the numbers of the parts of not and if."""
-        return _numbered(self.expression, 0)
+        return list(self._nodes)
 
     def __eq__(self, other):
         return isinstance(other, Body) and self.method == other.method and self.expression == other.expression

@@ -1,7 +1,7 @@
 """Books: which ways each operation tries, and three flags."""
 
-from answersby.checks import is_one_of
-from answersby.errors import NoBook, NoFlag, NoName, NoWays
+from answersby.checks import check_flag, is_one_of
+from answersby.errors import NoBook, NoName, NoWays
 from answersby.names import OPERATIONS, check_operation
 
 MENUS = {
@@ -93,8 +93,7 @@ class Book:
         """Sets the flag of this name."""
         if not is_one_of(word, FLAGS):
             raise NoName(word)
-        if not isinstance(value, bool):
-            raise NoFlag(value)
+        check_flag(value)
         self._flags[word] = value
 
     def twin(self):

@@ -1,4 +1,6 @@
-"""Tests of any values: numbers and words, as the conventions have them."""
+"""Tests of any values: numbers, words and flags, as the conventions have them."""
+
+from answersby.errors import NoFlag
 
 MOST_LETTERS = 6
 
@@ -21,3 +23,9 @@ def is_one_of(value, words):
     Only a text is compared: another value might call itself equal to one.
     """
     return isinstance(value, str) and value in words
+
+
+def check_flag(value):
+    """Raises NoFlag(value) unless it is True or False (any value)."""
+    if not isinstance(value, bool):
+        raise NoFlag(value)

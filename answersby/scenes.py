@@ -2,16 +2,21 @@
 
 from answersby.bodies import Body
 from answersby.checks import is_number, is_one_of
-from answersby.errors import NoClass, NoOperand
+from answersby.errors import NoClass, NoOperand, NoScene
 from answersby.names import check_method
 from answersby.tables import check_table
 
 OPERANDS = (0, 1, 2)
 
 
+def is_operand(value):
+    """Whether any value is 0, 1 or 2."""
+    return is_number(value) and value in OPERANDS
+
+
 def check_operand(operand):
     """Raises NoOperand(operand) unless it is 0, 1 or 2 (any value)."""
-    if not is_number(operand) or operand not in OPERANDS:
+    if not is_operand(operand):
         raise NoOperand(operand)
 
 
@@ -39,6 +44,14 @@ class Scene:
     def table(self):
         """A twin of the table."""
         return self._table.twin()
+
+    def book(self):
+        """A twin of the book."""
+        return self._book.twin()
+
+    def entry(self, name, method):
+        """The entry of a class for a method, or None."""
+        return self._table[name, method]
 
     def over(self, table):
         """A Scene of the same three names over another table."""
@@ -82,3 +95,9 @@ class Scene:
             if self._found(name, method) is not None:
                 break
         return walked
+
+
+def check_scene(scene):
+    """Raises NoScene(scene) unless it is a Scene (any value)."""
+    if not isinstance(scene, Scene):
+        raise NoScene(scene)

@@ -55,6 +55,13 @@ INTERFACE = {
         "__contains__ __iter__ listed __len__",
     },
     "scenes": {"Scene": "__init__ classes ways table over lookup walked"},
+    "engine": {"first_state": None, "next_state": None},
+    "plays": {"Play": "__init__ __iter__ listed __len__ end waits", "called": None},
+    "machines": {
+        "machine_of": None, "names_of": None, "looked_of": None,
+        "Machine": "__init__ __iter__ listed __len__ __eq__ form play walk", "Walk": "__init__ __call__ at call end",
+    },
+    "alike": {"parting": None, "alike_rows": None},
 }
 
 
