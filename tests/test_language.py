@@ -62,6 +62,11 @@ INTERFACE = {
         "Machine": "__init__ __iter__ listed __len__ __eq__ form play walk", "Walk": "__init__ __call__ at call end",
     },
     "alike": {"parting": None, "alike_rows": None},
+    "papers": {
+        "Paper": "__init__ __iter__ listed __len__ __contains__ __eq__ __invert__ __mul__", "paper_of": None, "gap": None,
+    },
+    "heirs": {"heir_scene": None, "spared": None, "witness": None, "witnesses": None, "free_methods": None},
+    "steady": {"related": None, "questions": None, "steady_end": None},
 }
 
 

@@ -68,6 +68,24 @@ class SceneTest(unittest.TestCase):
         self.assertEqual(scene.ways("truth"), ("truth", "length"))
         self.assertEqual(scene.table(), kept)
 
+    def test_the_returned_book_goes_on_by_itself(self):
+        table = diamond()
+        table.set_book(Book.bare())
+        scene = Scene(table, "d")
+        first = scene.book()
+        self.assertEqual(first, Book.bare())
+        first["each"] = ()
+        first.ends_same = True
+        self.assertEqual(scene.book(), Book.bare())
+        self.assertEqual(scene.ways("each"), ("walk",))
+
+    def test_entries_of_a_class(self):
+        table = diamond()
+        table["b", "like"] = LIKE
+        scene = Scene(table, "d")
+        table["b", "like"] = None
+        self.assertEqual([scene.entry(name, "like") for name in "abcds"], [None, LIKE, None, None, None])
+
     def test_the_returned_table_goes_on_by_itself(self):
         scene = Scene(diamond(), "d")
         first = scene.table()
