@@ -163,10 +163,10 @@ class Run:
         self._state = ("call", call, tuple(self._stack))
 
     def _lookup(self, operand, method, behind=None):
-        place = (operand, method, behind)
-        if place not in self._lookups:
-            self._lookups[place] = self._scene.lookup(operand, method, behind)
-        return self._lookups[place]
+        lookup = (operand, method, behind)
+        if lookup not in self._lookups:
+            self._lookups[lookup] = self._scene.lookup(operand, method, behind)
+        return self._lookups[lookup]
 
     def _go_on_asking(self, frame, answer):
         """Goes on with an operation whose method has answered, or that begins."""
