@@ -67,6 +67,13 @@ def parting(first, second, *, start=(0, 0)):
     return None if pair is None else _script_to(pair, before, first)
 
 
+def script_to(machine, number):
+    """The shortest script to a row; of several shortest ones the first one."""
+    # A machine never parts from itself, so all its rows are met.
+    _, before = searched(machine, machine, (0, 0))
+    return _script_to((number, number), before, machine)
+
+
 def alike_rows(machine):
     """For each row the least row behind which every script goes on as behind it."""
     check_machine(machine)

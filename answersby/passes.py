@@ -21,7 +21,7 @@ def is_step(call):
     return call[1] == "step" or call[3] in ("first", "up")
 
 
-def _is_with_item(call):
+def is_with_item(call):
     """Whether a call is on operand 2, or has it as the other operand."""
     operand, method, _, at = call
     return operand == ITEM or takes_other(method) and at == ITEM
@@ -32,7 +32,7 @@ def place_of(call, past):
     begin, steps, last = past
     if is_step(call):
         return (call, 0) if begins_pass(call) else (begin, steps)
-    return last if _is_with_item(call) else None
+    return last if is_with_item(call) else None
 
 
 def past_behind(call, past):

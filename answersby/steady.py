@@ -23,10 +23,15 @@ def _are_related_answers(relation, first, second, items):
     return first == ("count", items) and second == ("done",)
 
 
-def related(relation, first, second, items):
-    """Whether two ends are related; items is the number of items of the second run."""
+def check_relation(relation):
+    """Raises NoRelation(relation) unless it is a relation (any value)."""
     if not is_one_of(relation, RELATIONS):
         raise NoRelation(relation)
+
+
+def related(relation, first, second, items):
+    """Whether two ends are related; items is the number of items of the second run."""
+    check_relation(relation)
     if not any([end[0] in ANSWERS for end in (first, second)]):
         return True
     return _are_related_answers(relation, first, second, items)

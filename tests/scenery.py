@@ -1,5 +1,6 @@
 """Small scenes, and runs in them, for the tests."""
 
+from answersby.bodies import Body
 from answersby.books import Book
 from answersby.engine import first_state, next_state
 from answersby.scenes import Scene
@@ -59,3 +60,18 @@ def states(scene, operation, script=(), exchanged=False):
 def run(scene, operation, *script, exchanged=False):
     """The calls and the end of a run, in one list."""
     return [state[1] for state in states(scene, operation, script, exchanged)]
+
+
+def many_kept():
+    """A scene whose machine of like is small, but asks so much that is kept, whatever is answered."""
+    asked = {
+        "a": [("truth", "self"), ("truth", "other")],
+        "b": [("before", "self", "other"), ("before", "other", "self")],
+        "c": [("behind", "self", "other"), ("behind", "other", "self")],
+        "d": [("member", "self", "other"), ("member", "other", "self")],
+    }
+    entries = {("e", method): "native" for method in ("length", "before", "behind", "has", "like")}
+    for name, (one_asked, other_asked) in asked.items():
+        inner = ("if", ("ask", *other_asked), ("further",), ("further",))
+        entries[name, "like"] = Body("like", ("if", ("ask", *one_asked), inner, inner))
+    return chain(5, entries, book_of({"before": ("own",), "behind": ("own",)}))

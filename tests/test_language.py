@@ -67,6 +67,10 @@ INTERFACE = {
     },
     "heirs": {"heir_scene": None, "spared": None, "witness": None, "witnesses": None, "free_methods": None},
     "steady": {"related": None, "questions": None, "steady_end": None},
+    "joint": {"clash": None},
+    "agreements": {"pair_of": None, "disagreement": None},
+    "stocks": {"chosen": None, "failing": None},
+    "choices": {"Choices": "__init__ __iter__ listed __len__ cost floor"},
 }
 
 
@@ -229,7 +233,7 @@ class CodeTest(unittest.TestCase):
 
     def test_no_name_is_a_method_and_an_attribute(self):
         methods = {node.name for _, tree in nodes(ast.ClassDef) for node in tree.body if hasattr(node, "name")}
-        properties = {"bars_hash", "ends_same", "ends_true"}
+        properties = {"bars_hash", "ends_same", "ends_true", "cost"}
         for name, node in nodes(ast.Attribute):
             if isinstance(node.ctx, ast.Store):
                 self.assertNotIn(node.attr, methods - properties, (name, node.lineno))
