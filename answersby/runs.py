@@ -25,7 +25,7 @@ WALKERS = ("walk", "back")
 ITERATING = ("walk", "back", "step", "item")
 
 
-def _target(operation, way, operand, other):
+def target_of(operation, way, operand, other):
     """The operand and the method that a way looks up, and what stands at the end of its call."""
     if way == "own":
         return (operand, operation, other)
@@ -184,7 +184,7 @@ class Run:
         """Tries the ways of an operation from this number on."""
         ways = self._book[operation]
         for at in range(number, len(ways)):
-            target = _target(operation, ways[at], operand, other)
+            target = target_of(operation, ways[at], operand, other)
             found = self._lookup(target[0], target[1])
             if found is not None:
                 self._stack.append(("ask", operation, operand, other, at))

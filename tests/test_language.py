@@ -31,8 +31,11 @@ DUNDERS = set(
 )
 BARRED_WORDS = set(
     "type typing typing_extensions enum Enum IntEnum StrEnum Flag IntFlag Generic Protocol ABC ABCMeta namedtuple "
-    "NamedTuple TypedDict TYPE_CHECKING abstractmethod register mro elements open input law version_info "
-    "with_traceback add_note global async getattr setattr hasattr eval exec vars dir".split()
+    "NamedTuple TypedDict TYPE_CHECKING abstractmethod".split()
+)
+BARRED_NAMES = set(
+    "register mro elements open input law version_info with_traceback add_note global async getattr setattr hasattr "
+    "eval exec vars dir".split()
 )
 BARRED_NODES = (
     ast.Global, ast.AsyncFor, ast.AsyncFunctionDef, ast.AsyncWith, ast.Await, ast.Div, ast.Set,
@@ -71,6 +74,15 @@ INTERFACE = {
     "agreements": {"pair_of": None, "disagreement": None},
     "stocks": {"chosen": None, "failing": None},
     "choices": {"Choices": "__init__ __iter__ listed __len__ cost floor"},
+    "edits": {
+        "Draft": "__init__ __enter__ __exit__ make", "make_edits": None, "edited": None, "may_change": None, "changes": None,
+        "exchanged_bases": None, "free_exchanges": None,
+    },
+    "newer": {
+        "with_book": None, "book_changes": None, "idle_ways": None, "turning_books": None, "apart": None, "spread": None,
+    },
+    "notes": {"write_body": None, "read_body": None, "write_table": None, "read_table": None},
+    "console": {"Console": "__init__ run table"},
 }
 
 
@@ -195,6 +207,8 @@ class CodeTest(unittest.TestCase):
                 if token.type != tokenize.COMMENT and not docstring:
                     words = set(re.findall(r"\w+", token.string))
                     self.assertFalse(words & BARRED_WORDS, (name, token.line))
+                if token.type == tokenize.NAME:
+                    self.assertNotIn(token.string, BARRED_NAMES, (name, token.line))
 
     def test_strings_and_numbers(self):
         for name, node in nodes(ast.Constant):
