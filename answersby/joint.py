@@ -51,8 +51,7 @@ class Side:
 
     def begins_again(self):
         """Whether the run waits for a call that begins a pass that it has begun."""
-        call = self.call()
-        return call is not None and begins_pass(call) and call in self._begun
+        return self.call() in self._begun
 
     def behind(self, outcome):
         """The run behind an outcome of its call."""
@@ -110,11 +109,11 @@ def _behind(first, second, kept, call, outcome):
 
 
 def _numbered_calls(rows):
-    """A dict of the calls of rows, each with a number of its own."""
+    """A dict of the calls of rows (None for an end), each with a number of its own."""
     numbers = {}
     for row in rows:
         call = call_of(row)
-        if call is not None and call not in numbers:
+        if call not in numbers:
             numbers[call] = len(numbers)
     return numbers
 

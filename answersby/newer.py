@@ -17,7 +17,6 @@ SPREAD_CLASSES = ("left", "right", "item")
 def with_book(scene, book):
     """The scene over a twin of the table with this book."""
     check_scene(scene)
-    check_book(book)
     table = scene.table()
     table.set_book(book)
     return scene.over(table)
@@ -31,8 +30,6 @@ def book_changes(scene, book):
 
 def idle_ways(scene, operation):
     """The ways of an operation without each of which alone its machine is the same."""
-    check_scene(scene)
-    check_operation(operation)
     machine = machine_of(scene, operation)
     ways = scene.ways(operation)
     idle = []

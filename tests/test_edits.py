@@ -533,6 +533,12 @@ class ExchangesTest(unittest.TestCase):
             return False
         return True
 
+    def test_no_scene(self):
+        for value in NO_NAMES + (self.wide(), Scene):
+            with self.assertRaises(NoScene) as caught:
+                free_exchanges(value, "z")
+            self.assertIs(caught.exception.value, value)
+
     def test_no_bases(self):
         for name in ("a", "b", "p"):
             self.assertEqual(free_exchanges(Scene(self.wide(), "left"), name), [])

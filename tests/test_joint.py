@@ -276,6 +276,13 @@ class NeverEndingTest(Checks):
         self.out_of_step(WALK, Machine([row(WALK, 1), row(LIKE, 0)]), line())
         self.out_of_step(WALK, Machine([row(LIKE, 1), row(WALK, 0)]), line())
 
+    def test_a_ring_by_kept_answers_with_a_pass_in_it(self):
+        """It comes again to like, which it passed by the outcome that is kept now, ahead of the pass."""
+        ring = Machine([row(LIKE, 1), row(WALK, 0)])
+        self.check(None, line(WALK), ring)
+        self.out_of_step(WALK, ring, line(WALK))
+        self.out_of_step(WALK, line(WALK), Machine([row(LIKE, 1), row(WALK, 2), row(WALK, 0)]))
+
     def test_kept_by_the_other_run(self):
         """The second run passes the walk once, by what the first one was answered."""
         second = Machine([row(WALK, 1), row(LIKE, 0)])

@@ -158,6 +158,7 @@ class TurningBooksTest(unittest.TestCase):
         scene = three({(0, "length"): "native"})
         full, bare, other = Book(), Book.bare(), book_of({"truth": ("length",)}, ends_true=False)
         self.assertEqual(turning_books(scene, "truth"), [])
+        self.assertEqual(turning_books(operation="truth", scene=scene), [])
         self.assertEqual(turning_books(scene, "truth", bare), [])
         self.assertEqual(turning_books(scene, "truth", full, full), [])
         self.assertEqual(turning_books(scene, "truth", full, bare), [1])
